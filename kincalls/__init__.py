@@ -1,0 +1,1 @@
+"""Kincalls: words for kin, judged for all families."""
