@@ -72,12 +72,17 @@ def stand_behind(speech, stand, row):
     return behind
 
 
+def word_at(speech, stand):
+    """The word of the stand of this number."""
+    return speech[2][stand][0]
+
+
 def word_of(speech, sex, row):
     """The word of the stand to which the row leads from one of this sex."""
     need_speech(speech)
     need_sex(sex)
     need_row(row)
-    return speech[2][stand_behind(speech, first_stand(speech, sex), row)][0]
+    return word_at(speech, stand_behind(speech, first_stand(speech, sex), row))
 
 
 def sex_in(family, one):
@@ -108,13 +113,24 @@ def words_for(family, speech, one):
     return {name: sorted({words[at] for at in stands}) for name, stands in reached.items()}
 
 
+def words_between(family, speech, one, other):
+    """The rising list of the words of all rows from the one to the other."""
+    return words_for(family, speech, one).get(other, [])
+
+
+def names_called(family, speech, one, word):
+    """The rising list of the names of all others whom the one calls by the word."""
+    words = words_for(family, speech, one)
+    return sorted([name for name, told in words.items() if name != one and word in told])
+
+
 def called(family, speech, one, other):
     """The rising list of the unlike words by which the one calls the other."""
     need_family(family)
     need_speech(speech)
     need_name(family, one)
     need_name(family, other)
-    return words_for(family, speech, one).get(other, [])
+    return words_between(family, speech, one, other)
 
 
 def who(family, speech, one, word):
@@ -123,5 +139,4 @@ def who(family, speech, one, word):
     need_speech(speech)
     need_name(family, one)
     need_word(word)
-    words = words_for(family, speech, one)
-    return sorted([name for name, told in words.items() if name != one and word in told])
+    return names_called(family, speech, one, word)

@@ -111,13 +111,17 @@ def depths_along(row):
     return depths
 
 
+def in_births(persons, depths):
+    """The family of these persons, told by how far down each of them stands."""
+    # Parents stand higher than their children, so who stands higher is told ahead.
+    births = sorted([(depth, at) for at, depth in enumerate(depths)])
+    return tuple([persons[at] for _, at in births])
+
+
 def chain_of(sex, row):
     """The chain of a straight row of any length."""
     persons = chain_persons(sex, row)
-    # Parents stand higher than their children, so who stands higher is told ahead.
-    births = sorted([(depth, at) for at, depth in enumerate(depths_along(row))])
-    family = tuple([persons[at] for _, at in births])
-    return family, persons[0][0], persons[-1][0]
+    return in_births(persons, depths_along(row)), persons[0][0], persons[-1][0]
 
 
 def chain(sex, row):

@@ -70,6 +70,14 @@ def rows(family, one, other):
     return []
 
 
+def chain_row(family, one, other):
+    """The row of a chain with one person more than it has steps; None of what is no such thing."""
+    if not is_family_of_any_size(family) or has_ring(family):
+        return None
+    between = rows(family, one, other)
+    return between[0] if [len(row) + 1 for row in between] == [len(family)] else None
+
+
 def word_of(speech, sex, row):
     """The word of a row, its stands gone through one by one."""
     he, she, stands = speech
@@ -117,3 +125,162 @@ def is_family_of_any_size(thing):
             return False
         sexes[name] = sex
     return type(thing) is tuple and all(type(person) is tuple for person in thing)
+
+
+def end_of(sex, row):
+    """The sex of whoever stands behind the row."""
+    return {"f": "he", "s": "he", "m": "she", "d": "she"}[row[-1]] if row else sex
+
+
+def way_of(sex, row):
+    """How one came there behind the row."""
+    return "free" if not row or row[-1] in "fm" else end_of(sex, row[:-1])
+
+
+def stand_behind(speech, stand, row):
+    """The stand to which the row leads from a stand."""
+    for step in row:
+        stand = speech[2][stand][1:]["fmsd".index(step)]
+    return stand
+
+
+def turned(sex, row):
+    """The row from its other end, each step the other way round."""
+    back = ""
+    for at, step in enumerate(row):
+        down, up = {"he": ("s", "f"), "she": ("d", "m")}[end_of(sex, row[:at])]
+        back = (down if step in "fm" else up) + back
+    return back
+
+
+def leading(speech, sex, row):
+    """For each stand the one to which the row leads, read from its other end."""
+    back = turned(sex, row)
+    return tuple(stand_behind(speech, at, back) for at in range(len(speech[2])))
+
+
+def straight_rows(sex, most):
+    """All straight rows of up to so many steps, the shorter ones first."""
+    told = longest = [""]
+    for _ in range(most):
+        longest = [row + step for row in longest for step in "fmsd" if is_straight(sex, row + step)]
+        told = told + longest
+    return told
+
+
+def small_families(many):
+    """All families of so many persons, by the names a, b, and so on."""
+    families = [()]
+    for name in "abcdefgh"[:many]:
+        longer = []
+        for family in families:
+            fathers = [None] + [person[0] for person in family if person[1] == "he"]
+            mothers = [None] + [person[0] for person in family if person[1] == "she"]
+            for sex in ("he", "she"):
+                longer += [family + ((name, sex, f, m),) for f in fathers for m in mothers]
+        families = longer
+    return families
+
+
+def forks(most):
+    """How many persons it takes that just these rows, two or more, lead from a he or a she to another one."""
+    told = {}
+    for many in range(1, most + 1):
+        for family in small_families(many):
+            # Who does not hang together with the rest is in nobody's rows.
+            if sum(parent is not None for person in family for parent in person[2:]) < many - 1:
+                continue
+            if has_ring(family):
+                continue
+            for one, sex, *_ in family:
+                for other, *_ in family:
+                    between = rows(family, one, other)
+                    if len(between) > 1:
+                        told.setdefault((sex, tuple(between)), many)
+    return told
+
+
+def steps_on(sex, way):
+    """The steps that may be gone from a place."""
+    barred = {"free": "", "he": "f", "she": "m", "both": "fm"}[way]
+    return [step for step in "fmsd" if step not in barred]
+
+
+def gone(speech, spot, step):
+    """The place, or the pair, to which a step leads."""
+    sex, _, *stands = spot
+    way = "free" if step in "fm" else sex
+    return (end_of(sex, step), way, *(stand_behind(speech, stand, step) for stand in stands))
+
+
+def choices(speech, place):
+    """The choices of a place."""
+    sex, way, stand = place
+    told = []
+    if way == "free":
+        told += [("he", "both", "fs", "ms"), ("she", "both", "fd", "md")]
+    told += [("she", "free", "sm", "dm")] if sex == "he" else [("he", "free", "sf", "df")]
+    return [
+        (near, come, stand_behind(speech, stand, one), stand_behind(speech, stand, other))
+        for near, come, one, other in told
+    ]
+
+
+def lacking(speech, places, pairs):
+    """What places and pairs of a paper lack yet."""
+    places_led = {("he", "free", speech[0]), ("she", "free", speech[1])}
+    pairs_led = set()
+    for place in places:
+        places_led |= {gone(speech, place, step) for step in steps_on(*place[:2])}
+        pairs_led |= set(choices(speech, place))
+    for pair in pairs:
+        pairs_led |= {gone(speech, pair, step) for step in steps_on(*pair[:2])}
+    return places_led - set(places), pairs_led - set(pairs)
+
+
+def grown(speech, places, pairs):
+    """The least places and pairs with these among them that lack nothing."""
+    more = lacking(speech, places, pairs)
+    while more != (set(), set()):
+        places, pairs = set(places) | more[0], set(pairs) | more[1]
+        more = lacking(speech, places, pairs)
+    return places, pairs
+
+
+def words_alike(speech, pairs):
+    """Whether the two stands of each pair have the same word."""
+    return all(speech[2][one][0] == speech[2][other][0] for _, _, one, other in pairs)
+
+
+def is_sure(speech):
+    """Whether there is a paper."""
+    return words_alike(speech, grown(speech, set(), set())[1])
+
+
+def ends(speech):
+    """For each (sex, way, stand, leading) of a straight row a shortest one, the empty ones too."""
+    told = {}
+    edge = [("he", ""), ("she", "")]
+    while edge:
+        longer = []
+        for sex, row in edge:
+            stand = stand_behind(speech, speech[0 if sex == "he" else 1], row)
+            end = (end_of(sex, row), way_of(sex, row), stand, leading(speech, sex, row))
+            if end not in told:
+                told[end] = (sex, row)
+                longer += [(sex, row + step) for step in "fmsd" if is_straight(sex, row + step)]
+        edge = longer
+    return told
+
+
+def answers(speech):
+    """For each (word, answer) how many steps a shortest row has that shows it."""
+    told = {}
+    for sex, row in ends(speech).values():
+        for step in "fmsd":
+            longer = row + step
+            if is_straight(sex, longer):
+                back = word_of(speech, end_of(sex, longer), turned(sex, longer))
+                pair = (word_of(speech, sex, longer), back)
+                told[pair] = min(told.get(pair, len(longer)), len(longer))
+    return told

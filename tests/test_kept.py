@@ -5,11 +5,48 @@ import unittest
 
 from kincalls import errors
 from kincalls.families import couples, is_family, is_plain, rows
+from kincalls.houses import House
+from kincalls.pairs import answering, answers, unlike
 from kincalls.speeches import called, is_speech, who, word_of
 from kincalls.steps import chain, is_straight, turned
-from tests.samples import HOUSE, RING, SIDED, any_things
+from kincalls.sure import is_paper, paper, unsure
+from kincalls.texts import family_text, read_family, read_speech, speech_text
+from tests.samples import HOUSE, RING, SIDED, SPEECH, any_things
+from tests.speech_samples import FAR_OFF, GENERATIONS, LATE, SEXED
+
+
+def twin_house(speech):
+    """What a house tells that was made with this speech, and its twin."""
+    house = House(speech)
+    house.born("al", "he")
+    twin = house.twin()
+    twin.speak(speech)
+    return [(told.family(), told.speech(), len(told), told.called("al", "al")) for told in (house, twin)]
+
+
+def house_of_two(name, sex, parent):
+    """What a house tells in which one was born and then a parent found."""
+    house = House(SPEECH)
+    house.born("pa", "he")
+    house.born(name, sex)
+    house.found(name, parent)
+    return [house.family(), house.called(name, parent), house.who(parent, "kid")]
+
 
 CALLS = (
+    (unsure, (FAR_OFF,)),
+    (unsure, (LATE,)),
+    (paper, (SEXED,)),
+    (is_paper, (SEXED, paper(SEXED))),
+    (unlike, (GENERATIONS, SEXED)),
+    (answers, (SEXED,)),
+    (answering, (SEXED, "mum", "son")),
+    (twin_house, (SEXED,)),
+    (house_of_two, ("al", "he", "pa")),
+    (speech_text, (SEXED,)),
+    (family_text, (RING,)),
+    (read_speech, (speech_text(SEXED),)),
+    (read_family, (family_text(RING),)),
     (is_family, (HOUSE,)),
     (is_plain, (HOUSE,)),
     (couples, (RING,)),
@@ -65,7 +102,9 @@ class Kept(unittest.TestCase):
     def test_lists_that_are_told_are_new(self):
         for call, right in CALLS:
             told = call(*right)
-            if isinstance(told, list):
-                expected = list(told)
-                told.append("more")
-                self.assertEqual(call(*right), expected)
+            expected = copy.deepcopy(told)
+            # A paper is a tuple of two lists.
+            for part in told if isinstance(told, tuple) else (told,):
+                if isinstance(part, list):
+                    part.append("more")
+            self.assertEqual(call(*right), expected)

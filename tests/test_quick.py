@@ -3,10 +3,15 @@
 import time
 import unittest
 
+from kincalls.errors import NotSure, NoText, TooMany
 from kincalls.families import couples, is_family, is_plain, rows
+from kincalls.houses import House
+from kincalls.pairs import answering, answers, unlike
 from kincalls.speeches import called, is_speech, who, word_of
 from kincalls.steps import chain, is_straight, turned
-from tests import samples
+from kincalls.sure import is_paper, paper, unsure
+from kincalls.texts import family_text, read_family, read_speech, speech_text
+from tests import samples, speech_samples
 
 # Far more than any of these calls needs, far less than a slow way would take.
 SECONDS = 2
@@ -116,3 +121,92 @@ class Quick(unittest.TestCase):
         self.assertIs(self.within(is_family, (("a" * 10000000, "he", None, None),)), False)
         self.assertIs(self.within(is_speech, (0, 0, EIGHT[2] * 1000000)), False)
         self.assertIs(self.within(is_speech, (0, 0, (("a" * 10000000, 0, 0, 0, 0),))), False)
+
+    def refused(self, refusal, call, *things):
+        """See that the call refuses quickly."""
+        start = time.perf_counter()
+        with self.assertRaises(refusal):
+            call(*things)
+        self.assertLess(time.perf_counter() - start, SECONDS, call.__name__)
+
+    def test_8_stands_sure_or_not(self):
+        same = (0, 1, tuple(("a",) + stand[1:] for stand in EIGHT[2]))
+        self.assertIsNotNone(self.within(unsure, EIGHT))
+        self.assertIsNone(self.within(paper, EIGHT))
+        self.assertIsNone(self.within(unsure, same))
+        told = self.within(paper, same)
+        self.assertEqual(len(told[0]), 48)
+        self.assertIs(self.within(is_paper, same, told), True)
+        self.assertIs(self.within(is_paper, EIGHT, told), False)
+        self.assertIsNone(self.within(unlike, same, same))
+        for pair in ((EIGHT, same), (same, EIGHT)):
+            self.refused(NotSure, unlike, *pair)
+        self.refused(NotSure, answers, EIGHT)
+        self.refused(NotSure, answering, EIGHT, "a", "a")
+
+    def test_drawn_speeches_of_8_stands(self):
+        rand = samples.drawn(91)
+        speeches = [samples.speech_at_random(rand, 8) for _ in range(20)]
+        speeches += [(he, she, tuple(("a",) + stand[1:] for stand in stands)) for he, she, stands in speeches]
+        start = time.perf_counter()
+        for speech in speeches:
+            told = paper(speech)
+            if unsure(speech) is None:
+                self.assertIs(is_paper(speech, told), True)
+                unlike(speech, speeches[-1])
+        self.assertLess(time.perf_counter() - start, 5 * SECONDS)
+
+    def test_answers_at_the_limit_and_far_beyond(self):
+        for speech in speech_samples.ENDS_3000:
+            self.assertGreater(len(self.within(answers, speech)), 0)
+            self.within(answering, speech, "a", "g")
+        for speech in speech_samples.ENDS_3001 + (speech_samples.ENDS_MANY,):
+            self.refused(TooMany, answers, speech)
+            self.refused(TooMany, answering, speech, "a", "a")
+
+    def test_things_that_are_no_papers(self):
+        same = speech_samples.GENERATIONS
+        places, pairs = paper(same)
+        for thing in ((places * 100000, pairs), (places, pairs * 20000), ([None] * 10 ** 6, pairs),
+                      (places, [("he",) * 10 ** 6]), (places + ["x" * 10 ** 7], pairs), [places] * 10 ** 6):
+            self.assertIs(self.within(is_paper, same, thing), False)
+
+    def test_a_house_of_40_persons_with_many_deeds(self):
+        for family in (husbands_and_wives(), ladder()):
+            start = time.perf_counter()
+            house = House(EIGHT)
+            for name, sex, *_ in family:
+                house.born(name, sex)
+            found = [(person[0], parent) for person in family for parent in person[2:] if parent]
+            for _ in range(20):
+                for name, parent in found:
+                    house.found(name, parent)
+                for _ in found:
+                    house.undo()
+            for at in range(5000):
+                house.speak(EIGHT)
+            for name, parent in found:
+                house.found(name, parent)
+            self.assertEqual(house.family(), family)
+            self.assertLess(time.perf_counter() - start, SECONDS)
+            twin = self.within(house.twin)
+            self.within(house.plain)
+            self.within(house.called, family[0][0], family[-1][0])
+            self.within(house.who, family[-1][0], "abcdefga")
+            start = time.perf_counter()
+            for _ in range(5000 + len(found) + 40):
+                twin.undo()
+            self.assertLess(time.perf_counter() - start, SECONDS)
+            self.assertEqual((len(twin), house.family()), (0, family))
+
+    def test_texts_long_or_no_texts(self):
+        text = self.within(speech_text, EIGHT)
+        self.assertEqual(self.within(read_speech, text), EIGHT)
+        family = ladder()
+        text = self.within(family_text, family)
+        self.assertEqual(self.within(read_family, text), family)
+        for sign in ("a", "0", " ", "\n", "-", "a 0 0 0 0\n", "al he - -\n"):
+            for call in (read_speech, read_family):
+                self.refused(NoText, call, sign * 5000000)
+                self.refused(NoText, call, "he 0 she 0\n" + sign * 5000000 + "\n")
+                self.refused(NoText, call, "he 0 she " + sign * 5000000 + "\na 0 0 0 0\n")

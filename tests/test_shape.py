@@ -10,6 +10,16 @@ INTERFACE = {
     "families": ("is_family", "is_plain", "couples", "rows"),
     "steps": ("is_straight", "chain", "turned"),
     "speeches": ("is_speech", "word_of", "called", "who"),
+    "sure": ("unsure", "paper", "is_paper"),
+    "pairs": ("unlike", "answers", "answering"),
+    "houses": (),
+    "texts": ("speech_text", "family_text", "read_speech", "read_family"),
+}
+HOUSE = {
+    "born": "self, name, sex, father=None, mother=None", "found": "self, name, parent",
+    "speak": "self, speech", "undo": "self", "family": "self", "speech": "self",
+    "called": "self, one, other", "who": "self, one, word", "plain": "self", "twin": "self",
+    "__len__": "self", "__init__": "self, speech",
 }
 ALLOWED = {
     "len", "range", "enumerate", "zip", "min", "max", "sum", "abs", "sorted", "reversed", "int",
@@ -28,6 +38,13 @@ class Shape(unittest.TestCase):
             tree = ast.parse((FOLDER / (name + ".py")).read_text())
             defined = {node.name for node in tree.body if isinstance(node, ast.FunctionDef)}
             self.assertLessEqual(set(expected), defined)
+
+    def test_the_methods_of_a_house_are_defined_in_its_class(self):
+        tree = ast.parse((FOLDER / "houses.py").read_text())
+        house, = [node for node in tree.body if isinstance(node, ast.ClassDef) and node.name == "House"]
+        self.assertEqual(house.bases, [])
+        defined = {node.name: ast.unparse(node.args) for node in house.body if isinstance(node, ast.FunctionDef)}
+        self.assertEqual({name: defined.get(name) for name in HOUSE}, HOUSE)
 
     def test_lines_and_files_and_functions_are_short_and_ascii(self):
         for path in files():
